@@ -2,13 +2,17 @@ package console_test
 
 import (
 	"math"
+	"math/rand"
+	"slices"
 	"strings"
 	"testing"
 
 	"cameo/api"
+	"cameo/bg"
 	"cameo/console"
 	"cameo/disk"
 	"cameo/journal"
+	"cameo/mix"
 	"cameo/save"
 )
 
@@ -254,6 +258,97 @@ func TestTheOrigins(t *testing.T) {
 	}
 	if !found {
 		t.Fatal("the new origin isn't seen")
+	}
+}
+
+func TestTheStacks(t *testing.T) {
+	// MSR to Supervisor, MOV r0, r13; to Interrupt, MOV r1, r13; to System, MOV r2, r13
+	c := machine(t, words(0xE321F0D3, 0xE1A0000D, 0xE321F0D2, 0xE1A0100D, 0xE321F01F, 0xE1A0200D, forever), nil)
+	run(t, c, 60)
+	if c.Register(0) != 0x3007FE0 || c.Register(1) != 0x3007FA0 || c.Register(2) != 0x3007F00 {
+		t.Fatalf("%x %x %x", c.Register(0), c.Register(1), c.Register(2))
+	}
+}
+
+// picture draws a picture by the layers below, from the registers as they were written.
+func picture(mem map[uint32][]byte, reg map[uint32]uint16) []uint16 {
+	s := &bg.Scene{Control: reg[0], Mosaic: reg[0x4C], Vram: mem[0x6000000], Pal: mem[0x5000000], Oam: mem[0x7000000]}
+	for i := range uint32(4) {
+		s.Bg[i], s.X[i], s.Y[i] = reg[8+2*i], reg[0x10+4*i], reg[0x12+4*i]
+		for k := range uint32(2) {
+			s.Par[k][i] = int16(reg[0x20+16*k+2*i])
+		}
+	}
+	for k := range uint32(2) {
+		for v := range uint32(2) {
+			low := 0x28 + 16*k + 4*v
+			s.Ref[k][v] = int32((uint32(reg[low])|uint32(reg[low+2])<<16)<<4) >> 4
+		}
+	}
+	r := &mix.Regs{WinH: [2]uint16{reg[0x40], reg[0x42]}, WinV: [2]uint16{reg[0x44], reg[0x46]}, In: reg[0x48], Out: reg[0x4A], Blend: reg[0x50], Alpha: reg[0x52], Bright: reg[0x54]}
+	var all []uint16
+	for line := range 160 {
+		l := mix.Line(s, r, line)
+		all = append(all, l[:]...)
+		for k := range 2 {
+			s.Ref[k][0] += int32(s.Par[k][1])
+			s.Ref[k][1] += int32(s.Par[k][3])
+		}
+	}
+	return all
+}
+
+func TestPicturesFromTheirRegisters(t *testing.T) {
+	seen := 0
+	for seed := range 60 {
+		r := rand.New(rand.NewSource(int64(seed)))
+		c := machine(t, words(forever), nil)
+		mem := map[uint32][]byte{0x5000000: make([]byte, 0x400), 0x6000000: make([]byte, 0x18000), 0x7000000: make([]byte, 0x400)}
+		for base, m := range mem {
+			for i := range m {
+				if base != 0x6000000 || i%3 > 0 {
+					m[i] = byte(r.Uint32())
+				}
+			}
+			for i := 0; i < len(m); i += 2 {
+				c.Write(base+uint32(i), 2, uint32(m[i])|uint32(m[i+1])<<8)
+			}
+		}
+		reg := map[uint32]uint16{}
+		for at := uint32(0); at < 0x56; at += 2 {
+			if at == 4 || at == 6 {
+				continue
+			}
+			x := uint16(r.Uint32())
+			switch {
+			case at == 0:
+				x = x&^0x87 | 0x1F00 | uint16(seed%6)
+			case at >= 0x20 && at < 0x40 && at%16 < 8:
+				x = uint16(r.Intn(800) - 400)
+			case at >= 0x20 && at < 0x40 && at%4 == 2:
+				x = x & 0xF000 // hardly far away
+			case at >= 8 && at < 16:
+				x &^= 0x1C
+			}
+			reg[at] = x
+			c.Write(0x4000000+at, 2, uint32(x))
+		}
+		run(t, c, 2*api.FrameCycles)
+		frames := c.Frames()
+		want := picture(mem, reg)
+		if !slices.Equal(frames[1], want) {
+			t.Fatal(seed)
+		}
+		colours := map[uint16]bool{}
+		for _, x := range want {
+			colours[x] = true
+		}
+		if len(colours) > 50 {
+			seen++
+		}
+	}
+	if seen < 30 {
+		t.Fatal("hardly anything is seen", seen)
 	}
 }
 

@@ -103,6 +103,8 @@ func (p *program) sounds() {
 	p.store(0x4000080, 4, p.r.Uint32()|0x0304FF77)
 	p.store(0x4000062, 2, p.r.Uint32()|0x8000)
 	p.store(0x4000064, 2, p.r.Uint32()|0x8000)
+	p.store(0x4000068, 2, p.r.Uint32()|0x8000)
+	p.store(0x400006C, 2, p.r.Uint32()|0x8000)
 	p.store(0x4000070, 2, p.r.Uint32()|0x80)
 	p.store(0x4000072, 2, p.r.Uint32())
 	p.store(0x4000074, 2, p.r.Uint32()|0x8000)
@@ -141,7 +143,7 @@ func (p *program) paint() {
 }
 
 func (p *program) someService() {
-	n := p.pick(2, 4, 5, 6, 7, 8, 9, 10, 11, 12, 14, 15, 17, 18, 20, 21, 22, 0, 1, 3, 13, 16, 24, 99)
+	n := p.pick(2, 4, 5, 6, 7, 8, 9, 10, 11, 12, 14, 15, 17, 18, 19, 20, 21, 22, 23, 0, 1, 3, 13, 16, 24, 99)
 	a, b, c, d := p.word(), p.word(), p.word(), p.word()
 	switch n {
 	case 4:
@@ -150,7 +152,7 @@ func (p *program) someService() {
 		a, b, c = p.place(), p.place(), c&0xFF000000|uint32(p.r.Intn(40))
 	case 14, 15:
 		a, b, c, d = p.place(), p.place(), uint32(p.r.Intn(4)), p.pick(2, 8)
-	case 17, 18, 20, 21, 22:
+	case 17, 18, 19, 20, 21, 22, 23, 24:
 		a, b = 0x3000200, p.place()
 		p.store(a, 4, uint32(p.r.Intn(60))<<8|p.pick(0x10, 0x24, 0x28, 0x30, 0x81))
 		for k := range uint32(4) {

@@ -372,6 +372,37 @@ func TestVeryLongNoise(t *testing.T) {
 	}
 }
 
+// A length that has run down is the longest one when the channel starts again.
+func TestTheLongestLength(t *testing.T) {
+	for _, x := range []struct {
+		set, start  int
+		shape, word uint16
+		longest     int
+	}{{1, 2, 0xF03F, 0xC000, 64}, {3, 4, 0xF03F, 0xC000, 64}, {7, 8, 0xF03F, 0xC000, 64}, {5, 9, 0xFF80, 0xC000, 256}} {
+		u := psg.New()
+		u.Write(0, x.set, x.shape)
+		u.Write(0, x.start, x.word)
+		u.Run(2*32768 - 1)
+		if u.Playing() == 0 {
+			t.Fatal(x)
+		}
+		u.Run(2 * 32768)
+		if u.Playing() != 0 {
+			t.Fatal(x, "one second beat")
+		}
+		u.Write(2*32768, x.start, x.word)
+		end := (2 + 2*x.longest) * 32768
+		u.Run(end - 1)
+		if u.Playing() == 0 {
+			t.Fatal(x, "too short")
+		}
+		u.Run(end)
+		if u.Playing() != 0 {
+			t.Fatal(x, "too long")
+		}
+	}
+}
+
 func TestSilenceIsQuick(t *testing.T) {
 	u := psg.New()
 	u.Write(0, 1, 0xF03F)

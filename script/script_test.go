@@ -204,6 +204,7 @@ func TestTraceFramesAndSamples(t *testing.T) {
 		0xE2802401, // r2 = 5000000
 		0xE1C210B0, // STRH r1, [r2]
 		0xEF060000,
+		0xEF020000, // it sleeps, and nobody wakes it
 		0xEAFFFFFE,
 	} {
 		rom = append(rom, byte(w), byte(w>>8), byte(w>>16), byte(w>>24))

@@ -255,6 +255,9 @@ func TestSamples(t *testing.T) {
 				u.Psg().Bank(now, i, b)
 				p.Bank(now, i, b)
 			}
+			if u.Run(now); u.Psg().Out() != p.Out() {
+				t.Fatal(seed, "the channels aren't at this cycle")
+			}
 			if r.Intn(5) == 0 {
 				run(now)
 				got := u.Take(now)
