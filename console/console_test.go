@@ -14,6 +14,7 @@ import (
 	"cameo/journal"
 	"cameo/mix"
 	"cameo/save"
+	"cameo/sound"
 )
 
 func words(all ...uint32) string {
@@ -185,6 +186,126 @@ func TestAChannelStepByStep(t *testing.T) {
 }
 
 // Behind the first fetch, which is new to the buffer, a load and an Idle give it two cycles for what comes next.
+// Channel 0 begins at the blank of line 0, within the Idle that channel 3 has.
+func TestAChannelWithinAnIdle(t *testing.T) {
+	for _, x := range []struct {
+		units uint32
+		want  []api.Access
+	}{
+		{1, []api.Access{
+			{At: 959, Owner: 5, Width: 2, Class: api.ClassI},
+			{At: 961, Owner: 1, Addr: 0x3000000, Width: 2}, {At: 962, Owner: 1, Addr: 0x3000000, Width: 2, Write: true},
+			{At: 963, Owner: 5, Width: 2, Class: api.ClassI},
+			{At: 965, Owner: 4, Addr: 0x3000000, Width: 2}, {At: 966, Owner: 4, Addr: 0x3000000, Width: 2, Write: true},
+			{At: 967, Owner: 4, Addr: 0x3000002, Width: 2, Class: 1},
+		}},
+		{2, []api.Access{
+			{At: 959, Owner: 5, Width: 2, Class: api.ClassI},
+			{At: 961, Owner: 1, Addr: 0x3000000, Width: 2}, {At: 962, Owner: 1, Addr: 0x3000000, Width: 2, Write: true},
+			{At: 963, Owner: 5, Width: 2, Class: api.ClassI},
+			{At: 965, Owner: 1, Addr: 0x3000002, Width: 2, Class: 1}, {At: 966, Owner: 1, Addr: 0x3000002, Width: 2, Write: true, Class: 1},
+			{At: 967, Owner: 5, Width: 2, Class: api.ClassI},
+			{At: 969, Owner: 4, Addr: 0x3000000, Width: 2},
+		}},
+	} {
+		c := machine(t, words(forever), nil)
+		c.Idle(959 - c.Now())
+		for i, control := range map[uint32]uint32{0: 0xA000<<16 | x.units, 3: 0x8000<<16 | 2} {
+			c.Write(0x40000B0+12*i, 4, 0x3000000)
+			c.Write(0x40000B4+12*i, 4, 0x3000000)
+			c.Write(0x40000B8+12*i, 4, control)
+		}
+		run(t, c, 20)
+		expect(t, behind(c, 959), x.want)
+	}
+}
+
+func TestTheByteThatIsSaved(t *testing.T) {
+	for _, x := range []struct {
+		addr  uint32
+		width int
+		want  byte
+	}{{0xE000000, 1, 0x11}, {0xE000003, 1, 0x11}, {0xE000000, 2, 0x11}, {0xE000001, 2, 0x22}, {0xE000000, 4, 0x11}, {0xE000001, 4, 0x22}, {0xF000002, 4, 0x33}, {0xE008003, 4, 0x44}} {
+		chip, _ := save.New(api.ChipSram, "")
+		c := machine(t, "x", chip)
+		c.Write(x.addr, x.width, 0x44332211)
+		if n, _ := chip.Count(); n != 1 || chip.Read(x.addr) != x.want || c.Read(x.addr, 4) != uint32(x.want)*0x01010101 {
+			t.Fatalf("%v %x", x, chip.Read(x.addr))
+		}
+	}
+}
+
+// The sound's registers, against the layers below.
+func TestSoundFromItsRegisters(t *testing.T) {
+	numbers := map[uint32]int{0x60: 0, 0x62: 1, 0x64: 2, 0x68: 3, 0x6C: 4, 0x74: 9, 0x78: 7, 0x7C: 8}
+	masks := map[uint32]uint32{0x60: 0x7F, 0x62: 0xFFC0, 0x68: 0xFFC0, 0x78: 0xFFC0, 0x64: 0x4000, 0x6C: 0x4000, 0x74: 0x4000, 0x70: 0xE0, 0x72: 0xE000, 0x7C: 0x40FF}
+	heard := 0
+	for seed := range 12 {
+		r := rand.New(rand.NewSource(int64(seed)))
+		c, u := machine(t, words(forever), nil), sound.New()
+		low, high := uint16(0), uint16(0)
+		for range 40 {
+			at := []uint32{0x60, 0x62, 0x64, 0x66, 0x68, 0x6A, 0x6C, 0x6E, 0x70, 0x72, 0x74, 0x76, 0x78, 0x7A, 0x7C, 0x7E, 0x80, 0x82, 0x84, 0x88, 0x90, 0x94, 0x9E, 0x8A}[r.Intn(24)]
+			x := uint16(r.Uint32())
+			switch at {
+			case 0x60:
+				x = x&^0x70 | 0x10
+			case 0x62, 0x68, 0x78:
+				x |= 0x8000
+			case 0x64, 0x6C, 0x74, 0x7C:
+				x = x&^0x40E0 | 0x8000
+			case 0x70:
+				x |= 0x80
+			case 0x80:
+				x |= 0xFF77
+			case 0x84:
+				x |= 0x80
+			}
+			now := c.Now()
+			u.Run(now)
+			c.Write(0x4000000+at, 2, uint32(x))
+			if n, ok := numbers[at]; ok {
+				u.Psg().Write(now, n, x)
+			}
+			switch at {
+			case 0x70, 0x72:
+				if at == 0x70 {
+					low = x & 0xFF
+				} else {
+					high = x << 8
+				}
+				u.Psg().Write(now, 5, low|high)
+				if at == 0x72 {
+					u.Psg().Write(now, 6, x)
+				}
+			case 0x80, 0x82, 0x84:
+				u.Write(now, int(at-0x80)/2, x)
+			case 0x88:
+				u.Write(now, 3, x)
+			case 0x90, 0x94, 0x9E:
+				u.Psg().Bank(now, int(at-0x90), byte(x))
+				u.Psg().Bank(now, int(at-0x8F), byte(x>>8))
+			}
+			if at < 0x80 && c.Read(0x4000000+at, 2) != uint32(x)&masks[at] {
+				t.Fatalf("%x: %x of %x", at, c.Read(0x4000000+at, 2), x)
+			}
+			run(t, c, r.Intn(200000))
+			got, want := c.Samples(), u.Take(c.Now())
+			if !slices.Equal(got, want) {
+				t.Fatal(seed, len(got), len(want))
+			}
+			for _, s := range got {
+				if s != (api.Sample{}) {
+					heard++
+				}
+			}
+		}
+	}
+	if heard < 10000 {
+		t.Fatal("hardly anything is heard", heard)
+	}
+}
+
 func TestPrefetch(t *testing.T) {
 	c := machine(t, words(0xE3A01403, 0xE5912000, 0xE1A00000, 0xE1A00000, forever), nil)
 	c.Write(0x4000204, 2, 0x4000)
