@@ -233,7 +233,9 @@ func word(r *rand.Rand, reg int) uint16 {
 			x = x&^0x700 | 0x100
 		}
 	case 5:
-		x |= 0x80
+		if r.Intn(4) > 0 {
+			x |= 0x80
+		}
 		if r.Intn(2) == 0 {
 			x |= 0xFC00
 		}

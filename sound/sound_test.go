@@ -62,6 +62,19 @@ func TestRegisters(t *testing.T) {
 	}
 }
 
+// What is read is what is on at that cycle.
+func TestReadGoesOn(t *testing.T) {
+	u := sound.New()
+	u.Psg().Write(0, 3, 0xF03F)
+	u.Psg().Write(0, 4, 0xC000)
+	if u.Read(2*32768-1, 2) != 2 || u.Read(2*32768, 2) != 0 {
+		t.Fatal()
+	}
+	if s := u.Take(2 * 32768); len(s) != 128 {
+		t.Fatal(len(s))
+	}
+}
+
 func TestBuffers(t *testing.T) {
 	u := sound.New()
 	for _, i := range []int{-1, 2, math.MaxInt} {
